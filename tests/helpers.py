@@ -1,0 +1,162 @@
+"""What the tests share: partings built from trees, apart from the program, and objects that are wrong.
+
+A tree is a person, or a tuple of two trees. What the document says of groups is read off the tree here, so
+that the program, which works on lists of groups, is compared with another way to the same answer.
+"""
+
+from itertools import combinations
+
+from twopartings.errors import Crossing, InvalidText, PartError, Refused
+
+TWENTY = list(range(20))
+
+
+def members(tree):
+    """The persons of a tree, ascending."""
+    if isinstance(tree, int):
+        return [tree]
+    return sorted(members(tree[0]) + members(tree[1]))
+
+
+def inner_trees(tree):
+    """The tree and all trees in it that are no single persons."""
+    if isinstance(tree, int):
+        return []
+    return [tree] + inner_trees(tree[0]) + inner_trees(tree[1])
+
+
+def parting_of(tree):
+    return sorted(members(inner) for inner in inner_trees(tree))
+
+
+def all_trees(persons):
+    """Each way to part these persons in two, again and again, once."""
+    if len(persons) == 1:
+        return [persons[0]]
+    first, rest = persons[0], persons[1:]
+    found = []
+    for size in range(len(rest)):
+        for chosen in combinations(rest, size):
+            others = [person for person in rest if person not in chosen]
+            found += [(one, other) for one in all_trees([first, *chosen]) for other in all_trees(others)]
+    return found
+
+
+def tree_parts(tree):
+    """The parts of a tree, that with the least person first."""
+    return sorted([members(tree[0]), members(tree[1])], key=lambda part: part[0])
+
+
+def tree_maker(tree):
+    return max(members(tree[0])[0], members(tree[1])[0])
+
+
+def tree_depth(tree, person):
+    if isinstance(tree, int):
+        return 0
+    return 1 + tree_depth(tree[0] if person in members(tree[0]) else tree[1], person)
+
+
+def tree_least(tree, one, other):
+    """The persons of the least tree with both persons."""
+    for part in tree:
+        if one in members(part) and other in members(part):
+            return tree_least(part, one, other)
+    return members(tree)
+
+
+def cut_tree(tree, names):
+    """The tree without the persons that have no name in the dict, the others renamed by it; None if nobody stays."""
+    if isinstance(tree, int):
+        return names.get(tree)
+    one, other = cut_tree(tree[0], names), cut_tree(tree[1], names)
+    if one is None or other is None:
+        return other if one is None else one
+    return (one, other)
+
+
+def enter_tree(tree, item, person):
+    """The tree with one person more, by the item of a coming list."""
+    if isinstance(tree, int):
+        return (tree, person) if tree == item else tree
+    if item < 0 and tree_maker(tree) == -item:
+        return (tree, person)
+    return (enter_tree(tree[0], item, person), enter_tree(tree[1], item, person))
+
+
+def tree_by(coming):
+    """The tree to which a coming list leads."""
+    tree = 0
+    for person, item in enumerate(coming, start=1):
+        tree = enter_tree(tree, item, person)
+    return tree
+
+
+def comb(persons):
+    """A tree from which the persons leave singly, the last one first."""
+    tree = persons[0]
+    for person in persons[1:]:
+        tree = (tree, person)
+    return tree
+
+
+def halved(persons):
+    if len(persons) == 1:
+        return persons[0]
+    middle = len(persons) // 2
+    return (halved(persons[:middle]), halved(persons[middle:]))
+
+
+def trees_of_twenty():
+    """Unlike trees of twenty persons: combs, halves, mixed numbers, and some that coming lists lead to."""
+    mixed = [(7 * place + 3) % 20 for place in TWENTY]
+    trees = [comb(TWENTY), comb(TWENTY[::-1]), comb(mixed), halved(TWENTY), halved(mixed)]
+    trees.append((comb(mixed[:11]), halved(mixed[11:])))
+    return trees + [tree_by(coming) for coming in comings_of_twenty()]
+
+
+def comings_of_twenty():
+    """Coming lists of twenty persons: the least and the greatest items, and some between."""
+    found = [[0] * 19, TWENTY[:19], [-at for at in range(19)]]
+    found.append([at if at % 2 else -at for at in range(19)])
+    for seed in range(1, 9):
+        found.append([(seed * 31 + at * at * 17 + at * 5) % (2 * at + 1) - at for at in range(19)])
+    return found
+
+
+def nested(depth):
+    """An empty list, so many lists deep."""
+    thing = []
+    for _ in range(depth):
+        thing = [thing]
+    return thing
+
+
+def odd_things():
+    """Objects of all the kinds that may be passed; none is a parting, a group, a list of persons or a coming list."""
+    return [
+        None, True, False, 0, 1, -1, 10 ** 31 - 1, -(10 ** 31 - 1), "", "0", "[]", "[[0, 1]]",
+        (), ((0, 1),), ([0, 1],), {}, {"0": [0, 1]}, {"a": {"b": [1]}},
+        PartError("no"), Crossing(0, 2), Refused("full"), InvalidText(3),
+        [None], [True], ["0"], [[]], [()], [{}], [Refused("full")], [PartError("no"), 1],
+        [(0, 1)], [[0, "1"]], [[0, None]], [[0, True]], [[False, 1]], [["0", "1"]], [[0, [1]]], [[[0, 1]]],
+        [[0, 1], None], [[0, 1], [0, 1, {}]], [[0, 1], [0, 1, Crossing(0, 1)]],
+        [[0, 10 ** 30]], [[-(10 ** 30), 0]], [10 ** 30], [-(10 ** 30)],
+        nested(18), [nested(10), nested(11)], [[nested(5)] * 10] * 20, [[0, 1]] * 600, list(range(1900)),
+    ]
+
+
+def list_ids(thing):
+    """The identities of all lists in a list, itself included."""
+    if not isinstance(thing, list):
+        return []
+    return [id(thing)] + [number for item in thing for number in list_ids(item)]
+
+
+def error_of(call, *given, **named):
+    """The very class of what a call raises, None if it raises nothing."""
+    try:
+        call(*given, **named)
+    except Exception as error:  # any error at all: the test tells which one is right
+        return type(error)
+    return None

@@ -1,0 +1,1 @@
+"""Twopartings: a company parted in two, and again in two."""
