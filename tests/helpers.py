@@ -4,7 +4,8 @@ A tree is a person, or a tuple of two trees. What the document says of groups is
 that the program, which works on lists of groups, is compared with another way to the same answer.
 """
 
-from itertools import combinations
+from fractions import Fraction
+from itertools import combinations, product
 
 from twopartings.errors import Crossing, InvalidText, PartError, Refused
 
@@ -122,6 +123,75 @@ def comings_of_twenty():
     for seed in range(1, 9):
         found.append([(seed * 31 + at * at * 17 + at * 5) % (2 * at + 1) - at for at in range(19)])
     return found
+
+
+def cross(one, other):
+    one, other = set(one), set(other)
+    return bool(one & other and one - other and other - one)
+
+
+def all_groups(persons):
+    """All groups of so many persons, the lesser ones first."""
+    return [list(group) for size in range(2, persons + 1) for group in combinations(range(persons), size)]
+
+
+def families(persons):
+    """All families of groups of so many persons."""
+    found = [[]]
+    for group in all_groups(persons):
+        found += [family + [group] for family in found if not any(cross(group, told) for told in family)]
+    return found
+
+
+def mixed(items, seed):
+    """The items in another sequence, the same one each time."""
+    places = sorted(range(len(items)), key=lambda place: ((place + seed) * (place + 2 * seed + 5) * 13 % 37, place))
+    return [items[place] for place in places]
+
+
+def trees_with(persons, told):
+    """All trees of these persons that have all told groups, of which no two cross."""
+    inner = [set(group) for group in told if set(group) < set(persons)]
+    units = [group for group in inner if not any(group < other for other in inner)]
+    units += [{person} for person in persons if not any(person in unit for unit in units)]
+    below = [trees_with(sorted(unit), inner) if len(unit) > 1 else list(unit) for unit in units]
+    shapes = all_trees(list(range(len(units))))
+    return [cut_tree(shape, dict(enumerate(chosen))) for shape in shapes for chosen in product(*below)]
+
+
+def told_of_twenty():
+    """Families of twenty persons with few groups and with many, with the company and without it, in any sequence."""
+    found = [[], [TWENTY], [[3, 17]], [TWENTY[:19]], [TWENTY[1:], TWENTY[2:]], [TWENTY, [0, 1], [18, 19]]]
+    found += [[[at, at + 10] for at in range(10)], [[at, at + 1] for at in range(18, -1, -2)]]
+    found += [[TWENTY[5 * at:5 * at + 5] for at in (2, 0, 3, 1)], [TWENTY[:at] for at in (3, 12, 7, 18)]]
+    for seed, tree in enumerate(trees_of_twenty()):
+        groups = mixed(parting_of(tree), seed)
+        found += [groups, groups[:18 - seed], groups[:seed + 1], groups[seed::2]]
+    return found
+
+
+def nearly_whole_of_twenty():
+    """Families of twenty persons that leave open some groups of a parting, so that few partings have them."""
+    found = []
+    for seed, tree in enumerate(trees_of_twenty()):
+        inner = [group for group in mixed(parting_of(tree), seed) if len(group) < 20]
+        found += [inner, inner[1:], inner[2:] + [TWENTY], inner[:15], inner[seed % 4:][:14]]
+    return [told for told in found if len(trees_with(TWENTY, told)) < 1000]
+
+
+def share(top, bottom):
+    """The fraction as a tuple."""
+    found = Fraction(top, bottom)
+    return (found.numerator, found.denominator)
+
+
+def shares(numbers, many):
+    """The shares in which a number of a list is 0, 1, .. so many less one."""
+    return [share(numbers.count(number), len(numbers)) for number in range(many)]
+
+
+def mean(numbers):
+    return share(sum(numbers), len(numbers))
 
 
 def nested(depth):

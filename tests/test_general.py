@@ -4,8 +4,8 @@ import inspect
 import unittest
 from copy import deepcopy
 
-from tests.helpers import TWENTY, comb, halved, list_ids, odd_things, parting_of, trees_of_twenty
-from twopartings import comings, partings
+from tests.helpers import TWENTY, comb, halved, list_ids, odd_things, parting_of, told_of_twenty, trees_of_twenty
+from twopartings import comings, numbers, pairings, partings, shares, told
 
 INTERFACE = {
     partings: {
@@ -14,15 +14,65 @@ INTERFACE = {
         "least_group": ["parting", "one", "other"], "cut_to": ["parting", "some"],
     },
     comings: {"is_coming": ["thing"], "coming_of": ["parting"], "parting_by": ["coming"]},
+    pairings: {"is_pairing": ["thing"], "pairs_of": ["parting"], "parting_by_pairs": ["pairs"]},
+    told: {
+        "count_partings": ["persons"], "crossing": ["persons", "told"], "count_with": ["persons", "told"],
+        "share_with": ["persons", "told"], "units_of": ["persons", "told", "group"],
+        "group_share": ["persons", "told", "group"],
+    },
+    numbers: {
+        "nth_parting": ["persons", "index"], "parting_index": ["parting"], "next_parting": ["parting"],
+        "nth_with": ["persons", "told", "index"], "index_with": ["parting", "told"],
+        "nth_by_pairs": ["persons", "index"], "index_by_pairs": ["parting"],
+    },
+    shares: {
+        "triple_share": ["persons", "told", "one", "other", "third"], "depth_shares": ["persons", "told", "person"],
+        "mean_depth": ["persons", "told", "person"], "meet_shares": ["persons", "told", "one", "other"],
+        "pair_shares": ["persons", "told"], "mean_groups": ["persons", "told", "size"],
+        "first_shares": ["persons", "told"],
+    },
 }
-HALVES = [[0, 1], [0, 1, 2, 3], [2, 3]]
+KINDS = {
+    "is_parting": bool, "persons_of": int, "maker_of": int, "depth_of": int, "parts_of": list, "least_group": list,
+    "cut_to": list, "is_coming": bool, "coming_of": list, "parting_by": list, "is_pairing": bool, "pairs_of": list,
+    "parting_by_pairs": list, "count_partings": int, "crossing": tuple, "count_with": int, "share_with": tuple,
+    "units_of": list, "group_share": tuple, "nth_parting": list, "parting_index": int, "next_parting": list,
+    "nth_with": list, "index_with": int, "nth_by_pairs": list, "index_by_pairs": int, "triple_share": tuple,
+    "depth_shares": list, "mean_depth": tuple, "meet_shares": list, "pair_shares": list, "mean_groups": tuple,
+    "first_shares": list,
+}
+OBJECTS = {"thing", "parting", "coming", "pairs", "told", "group", "some"}
+
+
+def calls_of_told(persons, groups):
+    """Calls of what takes told groups, of which no two cross."""
+    both = {"persons": persons, "told": groups}
+    found = [(told.crossing, {"persons": persons, "told": [[0, 1], [1, persons - 1]]})] if persons > 2 else []
+    for function in (told.count_with, told.share_with, shares.pair_shares, shares.first_shares):
+        found.append((function, both))
+    for group in groups + [list(range(persons))]:
+        found += [(told.units_of, {**both, "group": group}), (told.units_of, {**both, "group": list(group)})]
+        found.append((told.group_share, {**both, "group": group}))
+    found.append((told.group_share, {**both, "group": [0, persons - 1]}))
+    found.append((numbers.nth_with, {**both, "index": 0}))
+    found.append((numbers.index_with, {"parting": numbers.nth_with(persons, groups, 0), "told": groups}))
+    for function in (shares.depth_shares, shares.mean_depth):
+        found.append((function, {**both, "person": persons - 1}))
+    found.append((shares.meet_shares, {**both, "one": persons - 1, "other": 0}))
+    found.append((shares.mean_groups, {**both, "size": 2}))
+    if persons > 2:
+        found.append((shares.triple_share, {**both, "one": persons - 1, "other": 0, "third": 1}))
+    return found
 
 
 def calls():
     """Calls of all functions, as (function, its arguments by name), with new arguments each time."""
     found = []
     trees = [(0, 1), ((0, 2), 1), ((0, 1), (2, 3)), comb(TWENTY), halved(TWENTY)]
+    for groups in told_of_twenty()[:14]:
+        found += calls_of_told(20, groups)
     for parting in [parting_of(tree) for tree in trees]:
+        found += calls_of_told(len(parting) + 1, parting) + calls_of_told(len(parting) + 1, parting[1:])
         persons = len(parting) + 1
         found += [(partings.is_parting, {"thing": parting}), (partings.persons_of, {"parting": parting})]
         for group in parting:
@@ -35,6 +85,15 @@ def calls():
         found.append((comings.coming_of, {"parting": parting}))
         found.append((comings.parting_by, {"coming": comings.coming_of(parting)}))
         found.append((comings.is_coming, {"thing": comings.coming_of(parting)}))
+        pairs = pairings.pairs_of(parting)
+        found += [(pairings.pairs_of, {"parting": parting}), (pairings.parting_by_pairs, {"pairs": pairs})]
+        found += [(pairings.is_pairing, {"thing": pairs}), (told.count_partings, {"persons": persons})]
+        for index in (0, told.count_partings(persons) - 1):
+            found.append((numbers.nth_parting, {"persons": persons, "index": index}))
+            found.append((numbers.nth_by_pairs, {"persons": persons, "index": index}))
+        found += [(numbers.parting_index, {"parting": parting}), (numbers.index_by_pairs, {"parting": parting})]
+        if persons > 2:
+            found.append((numbers.next_parting, {"parting": parting}))
     return deepcopy(found)
 
 
@@ -59,12 +118,13 @@ class Interface(unittest.TestCase):
             self.assertEqual(function(**dict(reversed(named.items()))), expected)
 
     def test_kinds_of_results(self):
-        kinds = {
-            "is_parting": bool, "is_coming": bool, "persons_of": int, "maker_of": int, "depth_of": int,
-            "parts_of": list, "least_group": list, "cut_to": list, "coming_of": list, "parting_by": list,
-        }
         for function, named in calls():
-            self.assertIs(type(function(**named)), kinds[function.__name__])
+            self.assertIs(type(function(**named)), KINDS[function.__name__])
+
+    def test_all_functions_are_called_here(self):
+        names = [name for functions in INTERFACE.values() for name in functions]
+        self.assertEqual(sorted(names), sorted(KINDS))
+        self.assertEqual({function.__name__ for function, _ in calls()}, set(names))
 
 
 class NewLists(unittest.TestCase):
@@ -110,18 +170,23 @@ class NewLists(unittest.TestCase):
                     self.assertIs(partings.is_parting(partings.cut_to(parting, part)), True)
                 maker = partings.maker_of(parting, group)
                 self.assertEqual(partings.least_group(parting, maker, group[0]), group)
+            self.assertEqual(pairings.parting_by_pairs(pairings.pairs_of(parting)), parting)
+            units = told.units_of(20, parting, parting[0])
+            self.assertEqual(told.group_share(20, [unit for unit in units if len(unit) > 1], parting[0])[0] > 0, True)
+            self.assertEqual(numbers.nth_parting(20, numbers.parting_index(parting)), parting)
+            self.assertEqual(numbers.index_with(numbers.nth_with(20, parting[1:5], 0), parting[1:5]), 0)
 
     def test_wrong_arguments_stay_as_they_were_too(self):
-        for module, functions in INTERFACE.items():
-            for name, arguments in functions.items():
-                for thing in [given for given in odd_things() if isinstance(given, (list, dict))]:
-                    before = str(thing)
-                    given = [thing] + [0] * (len(arguments) - 1)
-                    if name.startswith("is_"):
-                        self.assertIs(getattr(module, name)(*given), False)
+        for function, named in calls()[::3]:
+            for name in OBJECTS & set(named):
+                for thing in [given for given in odd_things() if isinstance(given, (list, dict)) and given != [(0, 1)]]:
+                    before = deepcopy([*named.values()]), str(thing)
+                    given = {**named, name: thing}
+                    if name == "thing":
+                        self.assertIs(function(**given), False)
                     else:
-                        self.assertRaises(ValueError, getattr(module, name), *given)
-                    self.assertEqual(str(thing), before)
+                        self.assertRaises(ValueError, function, **given)
+                    self.assertEqual(([*named.values()], str(thing)), before)
 
 
 if __name__ == "__main__":

@@ -1,8 +1,9 @@
-"""What the files of the package share: numbers, persons and groups, and how groups cross."""
+"""What the files of the package share: numbers, persons and groups, how groups cross, and fractions."""
 
 from itertools import combinations
+from math import gcd
 
-from twopartings.errors import InvalidPerson
+from twopartings.errors import InvalidIndex, InvalidNumber, InvalidPerson, InvalidPersons
 
 MOST_PERSONS = 20
 
@@ -34,10 +35,37 @@ def is_group(thing, persons):
     return is_person_list(thing, persons) and len(thing) >= 2
 
 
+def are_groups(thing, persons):
+    """Whether any object is a list of 0 to 19 unlike groups of so many persons."""
+    if not isinstance(thing, list) or len(thing) >= MOST_PERSONS:
+        return False
+    if not all([is_group(group, persons) for group in thing]):
+        return False
+    return len({tuple(group) for group in thing}) == len(thing)
+
+
+def need_persons(persons):
+    """Raise InvalidPersons unless a company can have so many persons."""
+    if not is_number(persons) or not 1 <= persons <= MOST_PERSONS:
+        raise InvalidPersons("a company has one to twenty persons")
+
+
 def need_person(person, persons):
     """Raise InvalidPerson unless this is one of so many persons."""
     if not is_person(person, persons):
         raise InvalidPerson(f"no such person among {persons}")
+
+
+def need_number(number, least, most):
+    """Raise InvalidNumber unless this is a number within its limits."""
+    if not is_number(number) or not least <= number <= most:
+        raise InvalidNumber(f"no number from {least} to {most}")
+
+
+def need_index(index, many):
+    """Raise InvalidIndex unless there is something with this index where there is so much."""
+    if not is_number(index) or not 0 <= index < many:
+        raise InvalidIndex(f"no such index among {many}")
 
 
 def mask_of(group):
@@ -54,3 +82,9 @@ def any_cross(groups):
     """Whether two of these groups cross."""
     masks = [mask_of(group) for group in groups]
     return any([masks_cross(one, other) for one, other in combinations(masks, 2)])
+
+
+def fraction(top, bottom):
+    """The fraction (top, bottom) without a common divisor above 1."""
+    divisor = gcd(top, bottom)
+    return (top // divisor, bottom // divisor)

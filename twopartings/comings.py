@@ -35,14 +35,24 @@ def grown(group, place, person):
     return group
 
 
+def place_of(made, item):
+    """The place that an item tells, as a list of persons; made is what come_into has built so far."""
+    return [item] if item >= 0 else made[-item - 1]
+
+
+def come_into(made, item, person):
+    """The groups when the next person has come by its item, the group with the maker i at index i - 1."""
+    # A group is made when its maker comes, and whoever comes into it later is greater than the least
+    # persons of both its parts: the maker and the index stay.
+    place = place_of(made, item)
+    return [grown(group, place, person) for group in made] + [place + [person]]
+
+
 def parting_by(coming):
     """The parting to which a coming list leads."""
     if not is_coming(coming):
         raise InvalidComing("no coming list of one to twenty persons")
-    # The group with the maker i stands at index i - 1: it is made when person i comes, and whoever
-    # comes into it later is greater than the least persons of both its parts.
-    groups = []
+    made = []
     for person, item in enumerate(coming, start=1):
-        place = [item] if item >= 0 else groups[-item - 1]
-        groups = [grown(group, place, person) for group in groups] + [place + [person]]
-    return sorted(groups)
+        made = come_into(made, item, person)
+    return sorted(made)
