@@ -216,6 +216,12 @@ def odd_things():
     ]
 
 
+def odd_for(name):
+    """The odd things that are wrong as this argument: one of them is a list of pairs, two are lists of partings."""
+    right = {"pairs": [[(0, 1)]], "partings": [[[]], [[[0, 1]]]]}.get(name, [])
+    return [thing for thing in odd_things() if thing not in right]
+
+
 def list_ids(thing):
     """The identities of all lists in a list, itself included."""
     if not isinstance(thing, list):

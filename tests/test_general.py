@@ -4,8 +4,12 @@ import inspect
 import unittest
 from copy import deepcopy
 
-from tests.helpers import TWENTY, comb, halved, list_ids, odd_things, parting_of, told_of_twenty, trees_of_twenty
-from twopartings import comings, numbers, pairings, partings, shares, told
+from tests.helpers import (
+    TWENTY, comb, halved, list_ids, odd_for, parting_of, told_of_twenty, trees_of_twenty,
+)
+from twopartings import (
+    comings, distances, families, leaving, numbers, pairings, partings, several, shares, told,
+)
 
 INTERFACE = {
     partings: {
@@ -31,6 +35,25 @@ INTERFACE = {
         "pair_shares": ["persons", "told"], "mean_groups": ["persons", "told", "size"],
         "first_shares": ["persons", "told"],
     },
+    leaving: {
+        "without": ["parting", "person"], "coming_without": ["coming", "person"], "entered": ["parting", "node"],
+        "is_traceless": ["parting", "person"], "traceless": ["parting"], "traceless_share": ["persons", "person"],
+        "traceless_counts": ["persons"],
+    },
+    several: {
+        "common_groups": ["partings"], "most_groups": ["partings"], "groups_from": ["partings", "number"],
+        "how_many": ["partings", "group"], "differing": ["partings", "family"], "least_sum": ["partings"],
+        "is_nearest": ["partings", "thing"],
+    },
+    distances: {
+        "distance": ["parting", "second"], "at_distances": ["parting"], "exchanged": ["parting", "group", "person"],
+        "neighbours": ["parting"], "agreeing": ["parting", "second"], "an_agreeing": ["parting", "second"],
+        "shows_agreeing": ["parting", "second", "thing"],
+    },
+    families: {
+        "is_family": ["persons", "thing"], "family_counts": ["persons"], "all_histories": ["persons"],
+        "histories": ["parting"], "history_share": ["persons", "group"],
+    },
 }
 KINDS = {
     "is_parting": bool, "persons_of": int, "maker_of": int, "depth_of": int, "parts_of": list, "least_group": list,
@@ -39,9 +62,14 @@ KINDS = {
     "units_of": list, "group_share": tuple, "nth_parting": list, "parting_index": int, "next_parting": list,
     "nth_with": list, "index_with": int, "nth_by_pairs": list, "index_by_pairs": int, "triple_share": tuple,
     "depth_shares": list, "mean_depth": tuple, "meet_shares": list, "pair_shares": list, "mean_groups": tuple,
-    "first_shares": list,
+    "first_shares": list, "without": list, "coming_without": list, "entered": list, "is_traceless": bool,
+    "traceless": list, "traceless_share": tuple, "traceless_counts": list, "common_groups": list, "most_groups": list,
+    "groups_from": list, "how_many": int, "differing": int, "least_sum": int, "is_nearest": bool, "distance": int,
+    "at_distances": list, "exchanged": list, "neighbours": list, "agreeing": int, "an_agreeing": list,
+    "shows_agreeing": bool, "is_family": bool, "family_counts": list, "all_histories": int, "histories": int,
+    "history_share": tuple,
 }
-OBJECTS = {"thing", "parting", "coming", "pairs", "told", "group", "some"}
+OBJECTS = {"thing", "parting", "coming", "pairs", "told", "group", "some", "second", "partings", "family"}
 
 
 def calls_of_told(persons, groups):
@@ -63,6 +91,47 @@ def calls_of_told(persons, groups):
     if persons > 2:
         found.append((shares.triple_share, {**both, "one": persons - 1, "other": 0, "third": 1}))
     return found
+
+
+def calls_of_persons(persons, person):
+    """Calls of what is told of so many persons, whatever their parting."""
+    found = [(families.history_share, {"persons": persons, "group": group}) for group in ([0, 1], [0, persons - 1])]
+    for call in (leaving.traceless_counts, families.family_counts, families.all_histories):
+        found.append((call, {"persons": persons}))
+    return found + [(leaving.traceless_share, {"persons": persons, "person": person})]
+
+
+def calls_of_leaving(parting, persons):
+    """Calls of who leaves one parting and who enters it."""
+    coming = comings.coming_of(parting)
+    found = [(leaving.traceless, {"parting": parting}), (families.histories, {"parting": parting})]
+    for person in (0, persons - 1):
+        found.append((leaving.without, {"parting": parting, "person": person}))
+        found.append((leaving.coming_without, {"coming": coming, "person": person}))
+        found.append((leaving.is_traceless, {"parting": parting, "person": person}))
+    if persons < 20:
+        found += [(leaving.entered, {"parting": parting, "node": node}) for node in (1 - persons, 0, persons - 1)]
+    return found
+
+
+def calls_of_two(parting, second):
+    """Calls of what is told of two partings, and of a list of partings with both."""
+    both = {"parting": parting, "second": second}
+    found = [(call, both) for call in (distances.distance, distances.agreeing, distances.an_agreeing)]
+    found += [(distances.shows_agreeing, {**both, "thing": thing}) for thing in ([0], [0, 1], parting[-1])]
+    found += [(call, {"parting": parting}) for call in (distances.at_distances, distances.neighbours)]
+    for group in parting:
+        if len(group) <= len(parting):
+            found.append((distances.exchanged, {"parting": parting, "group": group, "person": group[-1]}))
+    for many in ([parting], [parting, second], [second] * 20, [parting, parting, second]):
+        for call in (several.common_groups, several.most_groups, several.least_sum):
+            found.append((call, {"partings": many}))
+        found.append((several.groups_from, {"partings": many, "number": 1}))
+        found.append((several.how_many, {"partings": many, "group": parting[0]}))
+        found.append((several.differing, {"partings": many, "family": parting}))
+        found += [(several.is_nearest, {"partings": many, "thing": thing}) for thing in (parting, second, [])]
+    persons = len(parting) + 1
+    return found + [(families.is_family, {"persons": persons, "thing": thing}) for thing in (parting, parting[1:])]
 
 
 def calls():
@@ -94,6 +163,9 @@ def calls():
         found += [(numbers.parting_index, {"parting": parting}), (numbers.index_by_pairs, {"parting": parting})]
         if persons > 2:
             found.append((numbers.next_parting, {"parting": parting}))
+        found += calls_of_persons(persons, persons // 2) + calls_of_leaving(parting, persons)
+        found += calls_of_two(parting, numbers.nth_parting(persons, 0))
+        found += calls_of_two(parting, numbers.nth_by_pairs(persons, told.count_partings(persons) // 3))
     return deepcopy(found)
 
 
@@ -179,7 +251,8 @@ class NewLists(unittest.TestCase):
     def test_wrong_arguments_stay_as_they_were_too(self):
         for function, named in calls()[::3]:
             for name in OBJECTS & set(named):
-                for thing in [given for given in odd_things() if isinstance(given, (list, dict)) and given != [(0, 1)]]:
+                odd = [thing for thing in odd_for(name) if isinstance(thing, (list, dict))]
+                for thing in [thing for thing in odd if not pairings.is_pairing(thing)]:
                     before = deepcopy([*named.values()]), str(thing)
                     given = {**named, name: thing}
                     if name == "thing":
