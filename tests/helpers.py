@@ -6,8 +6,12 @@ that the program, which works on lists of groups, is compared with another way t
 
 from fractions import Fraction
 from itertools import combinations, product
+from math import comb as binomial
 
-from twopartings.errors import Crossing, InvalidText, PartError, Refused
+from twopartings.errors import (
+    Crossing, InvalidGroup, InvalidIndex, InvalidNode, InvalidPerson, InvalidText, NothingToUndo, PartError, Refused,
+)
+from twopartings.live import Company
 
 TWENTY = list(range(20))
 
@@ -91,6 +95,128 @@ def tree_by(coming):
     for person, item in enumerate(coming, start=1):
         tree = enter_tree(tree, item, person)
     return tree
+
+
+def tree_without(tree, persons, person):
+    """The tree without a person, those above it called one less; None if nobody stays."""
+    names = {other: other - (other > person) for other in range(persons) if other != person}
+    return cut_tree(tree, names)
+
+
+def exchange_tree(tree, group, person):
+    """The tree with the person's part of a group exchanged against what stands beside the group."""
+    if isinstance(tree, int):
+        return tree
+    for inner, beside in (tree, tree[::-1]):
+        if members(inner) == group:
+            kept, moved = inner if person in members(inner[0]) else inner[::-1]
+            return ((kept, beside), moved)
+    return (exchange_tree(tree[0], group, person), exchange_tree(tree[1], group, person))
+
+
+def tree_coming(tree):
+    """The coming list of a tree: whom, or which group, each person stands beside when it has just come."""
+    found = []
+    for person in members(tree)[1:]:
+        come = cut_tree(tree, {other: other for other in range(person + 1)})
+        part = [inner for inner in inner_trees(come) if person in inner][0]
+        beside = part[0] if part[1] == person else part[1]
+        found.append(beside if isinstance(beside, int) else -tree_maker(beside))
+    return found
+
+
+def free_persons(coming):
+    """Who leaves no trace, in the words of point 12."""
+    if not coming:
+        return [0]
+    behind = {person: coming[person:] for person in range(1, len(coming) + 1)}
+    return [person for person, items in behind.items() if person not in items and -person not in items]
+
+
+def tree_histories(tree):
+    """How many histories make the groups of a tree: those of both parts, put into one sequence in any way."""
+    if isinstance(tree, int):
+        return 1
+    many = [len(inner_trees(part)) for part in tree]
+    return binomial(sum(many), many[0]) * tree_histories(tree[0]) * tree_histories(tree[1])
+
+
+def tree_text(tree):
+    """The text of point 18."""
+    if isinstance(tree, int):
+        return str(tree)
+    one, other = sorted(tree, key=lambda part: members(part)[0])
+    return f"({tree_text(one)} {tree_text(other)})"
+
+
+class Told:
+    """A company as the calls tell it, kept as a tree (None for nobody); it raises what point 17 has it raise."""
+
+    def __init__(self):
+        self.tree = None
+        self.past = []
+
+    def persons(self):
+        return 0 if self.tree is None else len(members(self.tree))
+
+    def parting(self):
+        return [] if self.tree is None else parting_of(self.tree)
+
+    def coming(self):
+        return [] if self.tree is None else tree_coming(self.tree)
+
+    def change(self, tree):
+        self.past.append(self.tree)
+        self.tree = tree
+
+    def enter(self, node=0):
+        if self.persons() == 20:
+            raise Refused("full")
+        if abs(node) > max(self.persons() - 1, 0):
+            raise InvalidNode("node")
+        self.change(0 if self.tree is None else enter_tree(self.tree, node, self.persons()))
+
+    def leave(self, person):
+        if not 0 <= person < self.persons():
+            raise InvalidPerson("person")
+        self.change(tree_without(self.tree, self.persons(), person))
+
+    def exchange(self, group, person):
+        if group not in self.parting() or len(group) == self.persons():
+            raise InvalidGroup("group")
+        if person not in group:
+            raise InvalidPerson("person")
+        self.change(exchange_tree(self.tree, group, person))
+
+    def undo(self):
+        if not self.past:
+            raise NothingToUndo("nothing")
+        self.tree = self.past.pop()
+
+    def undo_to(self, index):
+        if not 0 <= index <= len(self.past):
+            raise InvalidIndex("index")
+        while len(self.past) > index:
+            self.undo()
+
+    def twin(self):
+        other = Told()
+        other.tree, other.past = self.tree, self.past[:]
+        return other
+
+
+class Dice:
+    """Numbers in no order that one could see, the same ones at each run."""
+
+    def __init__(self, seed):
+        self.state = seed
+
+    def below(self, many):
+        self.state = (self.state * 1103515245 + 12345) % 2 ** 31
+        return (self.state >> 12) % many
+
+    def one_of(self, items):
+        return items[self.below(len(items))]
 
 
 def comb(persons):
@@ -207,7 +333,7 @@ def odd_things():
     return [
         None, True, False, 0, 1, -1, 10 ** 31 - 1, -(10 ** 31 - 1), "", "0", "[]", "[[0, 1]]",
         (), ((0, 1),), ([0, 1],), {}, {"0": [0, 1]}, {"a": {"b": [1]}},
-        PartError("no"), Crossing(0, 2), Refused("full"), InvalidText(3),
+        PartError("no"), Crossing(0, 2), Refused("full"), InvalidText(3), Company(), [Company()], [[0, Company()]],
         [None], [True], ["0"], [[]], [()], [{}], [Refused("full")], [PartError("no"), 1],
         [(0, 1)], [[0, "1"]], [[0, None]], [[0, True]], [[False, 1]], [["0", "1"]], [[0, [1]]], [[[0, 1]]],
         [[0, 1], None], [[0, 1], [0, 1, {}]], [[0, 1], [0, 1, Crossing(0, 1)]],

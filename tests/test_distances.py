@@ -5,7 +5,8 @@ from itertools import combinations, product
 from math import comb as chosen
 
 from tests.helpers import (
-    TWENTY, all_trees, comb, cut_tree, error_of, halved, members, mixed, odd_things, parting_of, trees_of_twenty,
+    TWENTY, all_trees, comb, cut_tree, error_of, exchange_tree, halved, mixed, odd_things, parting_of,
+    trees_of_twenty,
 )
 from twopartings.distances import (
     agreeing, an_agreeing, at_distances, distance, exchanged, neighbours, shows_agreeing,
@@ -20,17 +21,6 @@ SMALL = {persons: all_trees(list(range(persons))) for persons in range(1, 7)}
 
 def groups_of(parting):
     return {tuple(group) for group in parting}
-
-
-def exchange_tree(tree, group, person):
-    """The tree with the person's part of a group exchanged against what stands beside the group."""
-    if isinstance(tree, int):
-        return tree
-    for inner, beside in (tree, tree[::-1]):
-        if members(inner) == group:
-            kept, moved = inner if person in members(inner[0]) else inner[::-1]
-            return ((kept, beside), moved)
-    return (exchange_tree(tree[0], group, person), exchange_tree(tree[1], group, person))
 
 
 def alike(tree, second, some):

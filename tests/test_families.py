@@ -7,8 +7,8 @@ from math import comb as chosen
 from math import factorial
 
 from tests.helpers import (
-    TWENTY, all_groups, comb, cross, error_of, families, halved, inner_trees, mixed, odd_things, parting_of,
-    share, told_of_twenty, trees_of_twenty,
+    TWENTY, all_groups, comb, cross, error_of, families, halved, mixed, odd_things, parting_of, share,
+    told_of_twenty, tree_histories, trees_of_twenty,
 )
 from twopartings.errors import InvalidGroup
 from twopartings.families import all_histories, family_counts, histories, history_share, is_family
@@ -29,14 +29,6 @@ def all_joined(parts, made):
 
 def histories_of(persons):
     return [sorted(made) for made in all_joined([(person,) for person in range(persons)], [])]
-
-
-def orders(tree):
-    """How many histories make the groups of a tree: those of both parts, put into one sequence in any way."""
-    if isinstance(tree, int):
-        return 1
-    many = [len(inner_trees(part)) for part in tree]
-    return chosen(sum(many), many[0]) * orders(tree[0]) * orders(tree[1])
 
 
 @cache
@@ -150,7 +142,7 @@ class Histories(unittest.TestCase):
 
     def test_twenty_persons(self):
         for tree in trees_of_twenty():
-            self.assertEqual(histories(parting_of(tree)), orders(tree))
+            self.assertEqual(histories(parting_of(tree)), tree_histories(tree))
         self.assertEqual(histories(parting_of(comb(TWENTY))), 1)
         self.assertEqual(histories(parting_of((comb(TWENTY[:10]), comb(TWENTY[10:])))), chosen(18, 9))
         self.assertEqual(histories(parting_of(halved(TWENTY[:8]))), 80)

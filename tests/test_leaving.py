@@ -5,8 +5,8 @@ from itertools import product
 from math import comb as chosen
 
 from tests.helpers import (
-    TWENTY, all_trees, comb, comings_of_twenty, cut_tree, enter_tree, error_of, halved, mean, mixed, parting_of, share,
-    tree_by, trees_of_twenty,
+    TWENTY, all_trees, comb, comings_of_twenty, enter_tree, error_of, free_persons, halved, mean, mixed, parting_of,
+    share, tree_by, tree_without, trees_of_twenty,
 )
 from twopartings.comings import coming_of, parting_by
 from twopartings.errors import InvalidNode, InvalidParting, InvalidPerson, NoPerson
@@ -17,22 +17,8 @@ from twopartings.partings import cut_to
 from twopartings.told import count_partings
 
 
-def tree_without(tree, persons, person):
-    """The tree without a person, those above it called one less."""
-    names = {other: other - (other > person) for other in range(persons) if other != person}
-    return cut_tree(tree, names)
-
-
 def all_comings(persons):
     return [list(coming) for coming in product(*[range(-at, at + 1) for at in range(persons - 1)])]
-
-
-def free_persons(coming):
-    """Who leaves no trace, in the words of point 12."""
-    if not coming:
-        return [0]
-    behind = {person: coming[person:] for person in range(1, len(coming) + 1)}
-    return [person for person, items in behind.items() if person not in items and -person not in items]
 
 
 def shortened(coming, person):

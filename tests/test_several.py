@@ -209,6 +209,7 @@ class Wrong(unittest.TestCase):
         ]
         calls = [(common_groups, ()), (most_groups, ()), (least_sum, ()), (groups_from, (1,)), (how_many, ([0, 1],))]
         calls += [(differing, ([],)), (is_nearest, ([],)), (is_nearest, (None,))]
+        things += [[thing, HALVES] for thing in odd_things()] + [[HALVES, thing, CHAIN] for thing in odd_things()]
         for thing in things + odd_for("partings"):
             for function, given in calls:
                 self.assertIs(error_of(function, thing, *given), InvalidPartings, str(thing)[:80])

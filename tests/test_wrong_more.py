@@ -1,4 +1,4 @@
-"""Points 2, 5 and 12 to 15: which error is raised, where one argument is wrong and where several are."""
+"""Points 2, 5 and 12 to 16: which error is raised, where one argument is wrong and where several are."""
 
 import unittest
 from itertools import product
@@ -16,6 +16,7 @@ from twopartings.families import all_histories, family_counts, histories, histor
 from twopartings.leaving import (
     coming_without, entered, is_traceless, traceless, traceless_counts, traceless_share, without,
 )
+from twopartings.marks import change_counts, changes_of
 from twopartings.several import (
     common_groups, differing, groups_from, how_many, is_nearest, least_sum, most_groups,
 )
@@ -26,7 +27,7 @@ WHOLE = parting_of(comb(TWENTY))
 RIGHT = {
     "persons": 4, "parting": HALVES, "second": CHAIN, "partings": [HALVES, CHAIN, HALVES], "coming": [0, -1, 2],
     "person": 3, "inside": 1, "node": -3, "group": [0, 1], "inner": [0, 1], "family": [[2, 3], [0, 1]], "number": 2,
-    "thing": [0, 1],
+    "thing": [0, 1], "some": [0, 2], "marked": 2,
 }
 KINDS = {
     **{name: WRONG[name] for name in ("persons", "parting", "person", "group")},
@@ -44,6 +45,11 @@ KINDS = {
     "inner": (WRONG["group"][0] + [[0, 1, 2, 3], [0, 2], [1, 2]], InvalidGroup),
     "family": (WRONG["told"][0], InvalidGroups),
     "number": ([0, 4, -1, 21] + FAR, InvalidNumber),
+    "some": ([
+        None, 0, "", (), {}, (0, 1), [4], [-1], [1, 0], [0, 0], [0, 1, 2, 3, 4], [True], [0, True], [[0]], ["0"],
+        [None],
+    ], InvalidGroup),
+    "marked": ([-1, 5, -2, 21] + FAR, InvalidNumber),
 }
 FUNCTIONS = [
     (without, ["parting", "person"]), (coming_without, ["coming", "person"]), (entered, ["parting", "node"]),
@@ -55,8 +61,9 @@ FUNCTIONS = [
     (agreeing, ["parting", "second"]), (an_agreeing, ["parting", "second"]),
     (shows_agreeing, ["parting", "second", "thing"]), (is_family, ["persons", "thing"]), (family_counts, ["persons"]),
     (all_histories, ["persons"]), (histories, ["parting"]), (history_share, ["persons", "group"]),
+    (changes_of, ["parting", "some"]), (change_counts, ["persons", "marked"]),
 ]
-NAMES = {"inside": "person", "inner": "group"}
+NAMES = {"inside": "person", "inner": "group", "marked": "number"}
 
 
 def named(kinds, values):
@@ -89,7 +96,7 @@ class OneWrong(unittest.TestCase):
                         self.assertIs(error_of(function, **named(kinds, values)), KINDS[kind][1])
 
     def test_any_object(self):
-        objects = {"parting", "second", "coming", "group", "inner", "family", "partings"}
+        objects = {"parting", "second", "coming", "group", "inner", "family", "partings", "some"}
         for function, kinds in FUNCTIONS:
             for at, kind in enumerate(kinds):
                 for thing in odd_for(kind) if kind in objects else []:

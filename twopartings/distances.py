@@ -2,7 +2,7 @@
 
 from twopartings.basics import is_group, is_person, is_person_list
 from twopartings.errors import InvalidGroup, InvalidParting, InvalidPerson
-from twopartings.partings import both_parts, cut, is_parting, persons_of
+from twopartings.partings import both_parts, cut, is_parting, parts_by_size, persons_of
 from twopartings.told import ways_of
 
 
@@ -86,14 +86,6 @@ def neighbours(parting):
     persons = persons_of(parting)
     inner = [group for group in parting if len(group) < persons]
     return sorted([swapped(parting, group, part) for group in inner for part in both_parts(parting, group)])
-
-
-def parts_by_size(parting):
-    """Each person, as a tuple, and each group of a valid parting -> its parts, what lies within ahead of it."""
-    parts = {(person,): () for person in range(len(parting) + 1)}
-    for group in sorted(parting, key=len):
-        parts[tuple(group)] = tuple([tuple(part) for part in both_parts(parting, group)])
-    return parts
 
 
 def alike_within(best, one, halves, other, quarters):

@@ -40,6 +40,14 @@ def both_parts(parting, group):
     return [list(first), [person for person in group if person not in first]]
 
 
+def parts_by_size(parting):
+    """Each person, as a tuple, and each group of a valid parting -> its parts, what lies within ahead of it."""
+    parts = {(person,): () for person in range(len(parting) + 1)}
+    for group in sorted(parting, key=len):
+        parts[tuple(group)] = tuple([tuple(part) for part in both_parts(parting, group)])
+    return parts
+
+
 def parts_of(parting, group):
     """The list of both parts of a group, that with the least person first."""
     need_group_in(parting, group)

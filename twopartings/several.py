@@ -11,8 +11,10 @@ def need_partings(partings):
     """Raise InvalidPartings unless these are 1 to 20 partings of as many persons each; tells how many persons."""
     if not isinstance(partings, list) or not 1 <= len(partings) <= MOST_PERSONS:
         raise InvalidPartings("no list of 1 to 20 partings")
-    if not all([is_parting(parting) and len(parting) == len(partings[0]) for parting in partings]):
-        raise InvalidPartings("an item is no parting, or one of another number of persons")
+    if not all([is_parting(parting) for parting in partings]):
+        raise InvalidPartings("an item is no parting")
+    if not all([len(parting) == len(partings[0]) for parting in partings]):
+        raise InvalidPartings("the partings are not of as many persons each")
     return len(partings[0]) + 1
 
 
